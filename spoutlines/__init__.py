@@ -1,0 +1,1 @@
+"""Spoutlines: all jets of a spout, decided at once."""
