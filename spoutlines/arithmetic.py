@@ -5,6 +5,9 @@ Nothing is checked here: the callers have done that, or made the fractions thems
 
 from math import gcd, isqrt
 
+ZERO = (0, 1)
+ONE = (1, 1)
+
 
 def is_whole(value):
     return isinstance(value, int) and not isinstance(value, bool)
@@ -32,6 +35,20 @@ def minus(one, other):
 
 def times(one, other):
     return reduced(one[0] * other[0], one[1] * other[1])
+
+
+def quotient(one, other):
+    """The fraction one / other, the other one not 0."""
+    upper, lower = one[0] * other[1], one[1] * other[0]
+    return reduced(upper, lower) if lower > 0 else reduced(-upper, -lower)
+
+
+def negative(fraction):
+    return (-fraction[0], fraction[1])
+
+
+def is_below(one, other):
+    return one[0] * other[1] < other[0] * one[1]
 
 
 def square_root(fraction):

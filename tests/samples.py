@@ -1,5 +1,7 @@
 """Values of many kinds, and a check of errors, that several tests use."""
 
+from spoutlines.errors import InvalidAsk, InvalidAsks, InvalidDistance, InvalidHead, InvalidJet, InvalidPlace
+
 
 class Touchy:
     """A value that may be looked at by its class alone."""
@@ -24,7 +26,7 @@ TOUCHY = Touchy()
 # Nothing among these is a fraction, a surd, a point, a whole number or anything else that is asked for.
 STRANGE = [
     None, True, False, (), [], {}, set(), frozenset(), "", "1/2", "12", "123", b"", b"12", b"123", (1,), [1, 2],
-    [1, 2, 3], ((1, 2),), ((1, 2), (3, 4)), (None, None), (None, None, None), ("1", "2"), ("1", "2", "3"), {1: 2},
+    [1, 2, 3], ((1, 2),), ((1, 2), (4, 2)), (None, None), (None, None, None), ("1", "2"), ("1", "2", "3"), {1: 2},
     {1: 2, 3: 4}, {1, 2}, {1, 2, 3}, range(2), range(3), object(), object, int, len, Ellipsis, NotImplemented,
     ValueError("1"), 1j, nested(14), TOUCHY, (TOUCHY,), (TOUCHY, TOUCHY), (TOUCHY, TOUCHY, TOUCHY), (1, TOUCHY),
     (1, 2, TOUCHY), (TOUCHY, 0, (0, 1)), ((1, 2), TOUCHY, (2, 1)), ((1, 2), 1, TOUCHY), (nested(13), 1),
@@ -70,6 +72,71 @@ AHEAD = [
 NOT_AHEAD = [(0, 0, 1), (0, 1, 1), (0, -1, 2), (-1, 0, 1), (-6, 1, 4), (-1, 10 ** 400, 3)]
 
 
+BELOW_ZERO = [(-1, 1), (-1, 2), (-22, 7), (-(10 ** 400), 3)]
+NOT_ABOVE_ZERO = [(0, 1)] + BELOW_ZERO
+NO_PLACES = NO_POINTS + NOT_AHEAD
+
+NO_JETS = STRANGE + [
+    0, 1, (1, 2), ((1, 2),), ((1, 2), (1, 2), (1, 2)), [(1, 2), (1, 2)], ([1, 2], (1, 2)), ((1, 2), [1, 2]),
+    ((1, 2), (0, 1)), ((1, 2), (-1, 2)), ((1, 2), (-(10 ** 400), 3)), ((2, 4), (1, 2)), ((1, 2), (2, 4)),
+    ((1, 0), (1, 2)), ((1, 2), (1, 0)), ((1, 2), (1, -2)), ((1, 2), (True, 2)), ((True, 2), (1, 2)),
+    ((1, 2), (1, True)), ((1, 2), None), (None, (1, 2)), ((1, 2), 1), (1, (1, 2)), ((0, 1), 0, (0, 1)),
+    ((1, 2), TOUCHY), (TOUCHY, (1, 2)), ((1, 2), ((1, 2),)), ("12", "12"), ((1, 2), "12"), ((1, 2, 1), (1, 2)),
+    (((1, 1), (1, 4)),),
+]
+JETS = [
+    ((1, 1), (1, 4)), ((0, 1), (1, 1)), ((-3, 2), (2, 7)), ((10 ** 9, 7), (1, 10 ** 9)),
+    ((1, 10 ** 399), (3 ** 900, 2)), ((-(10 ** 400) + 1, 10 ** 399), (1, 10 ** 399)),
+]
+
+NEAR, FAR = (1, 1, 1), (3, 1, 1)
+ASKS = [
+    ("over", NEAR), ("over", (6, -1, 4)), ("under", NEAR), ("under", (1, 0, 2)), ("roof", NEAR, FAR),
+    ("roof", (1, 0, 2), (1, 0, 1)), ("roof", (1, -1, 2), (1, 7, 1)), ("low", (1, 1)), ("low", (22, 7)),
+    ("dives", (0, 1), (0, 1)), ("dives", (2, 1), (-1, 3)), ("climbs", (0, 1), (-1, 1)), ("climbs", (1, 2), (5, 1)),
+    ("quick", (1, 4)), ("slow", (1, 10 ** 9)), ("over", AHEAD[-1]), ("quick", (10 ** 400, 3)),
+]
+NO_ASKS = STRANGE + [
+    "over", ("over",), ("over", NEAR, FAR), ("over", NEAR, NEAR, NEAR), ["over", NEAR], ("over", [1, 1, 1]),
+    ("over", (0, 1, 1)), ("over", (-1, 1, 1)), ("over", (2, 2, 2)), ("over", (1, 1, 0)), ("over", (1, 1, True)),
+    ("over", (1, 2)), ("over", None), ("over", TOUCHY), (TOUCHY, NEAR), (NEAR, "over"), ("under",),
+    ("under", (0, 1, 1)), ("under", NEAR, FAR), ("Over", NEAR), ("over ", NEAR), ("", NEAR), (b"over", NEAR),
+    (("over",), NEAR), (None, NEAR), ("above", NEAR), ("post", NEAR), ("roof", NEAR), ("roof", FAR, NEAR),
+    ("roof", NEAR, NEAR), ("roof", NEAR, (2, 5, 2)), ("roof", NEAR, FAR, FAR), ("roof", (NEAR, FAR)),
+    ("roof", (0, 1, 1), FAR), ("roof", NEAR, (6, 2, 2)), ("roof", NEAR, TOUCHY), ("roof", TOUCHY, FAR),
+    ["roof", NEAR, FAR], ("roof", [1, 1, 1], FAR), ("over", (1, 2, 3, 4)), ("low",), ("low", (0, 1)), ("low", (-1, 2)),
+    ("low", 1), ("low", (2, 2)), ("low", (True, 2)), ("low", (1, 2), (1, 2)), ("low", [1, 2]), ("quick", (0, 1)),
+    ("quick", (-1, 2)), ("quick", NEAR), ("quick", 1), ("quick", (1, 0)), ("quick",), ("slow", (0, 1)),
+    ("slow", (-5, 2)), ("slow", (1, 2), (0, 1)), ("slow", True), ("slow", [1, 2]), ("slow", TOUCHY), ("dives", (1, 2)),
+    ("dives", (-1, 2), (1, 2)), ("dives", (1, 2), 1), ("dives", 0, (1, 2)), ("dives", (2, 4), (1, 2)),
+    ("dives", (1, 2), (2, 4)), ("dives", [1, 2], (1, 2)), ("dives", (1, 2), [1, 2]), ("dives", (False, 1), (1, 2)),
+    ("dives", (1, 2), (1, 2), (1, 2)), ("climbs", (1, 2)), ("climbs", (-1, 10 ** 400), (1, 2)),
+    ("climbs", (1, 2), None), ("climbs", TOUCHY, (1, 2)), ("climbs", (1, 2), TOUCHY), ("climbs", NEAR, (1, 2)),
+    ("climb", (1, 2), (1, 2)), (("over", NEAR),), ("over", ("over", NEAR)),
+]
+# Values that are no asks, each beside the index that is told.
+WRONG_ASKS = [(value, None) for value in STRANGE if not isinstance(value, tuple)] + [
+    (0, None), (1, None), ([("over", NEAR)], None), ("over", None), ({("over", NEAR): 1}, None),
+] + [((value,), 0) for value in NO_ASKS] + [
+    (("over", NEAR), 0), ((("over", NEAR), TOUCHY), 1), ((("over", NEAR), ("low", (1, 1)), ("over", (0, 1, 1)), 7), 2),
+    ((("low", (1, 1)),) * 7 + (("low", (0, 1)),), 7), ((("low", (1, 1)),) * 8 + (("low", (0, 1)),), 8),
+    ((("low", (1, 1)),) * 9, 8), ((("low", (1, 1)),) * 60, 8), ((("low", (1, 1)),) * 3 + (None,) * 20, 3),
+    ((TOUCHY,) * 9, 0), ((("over", NEAR), [("over", NEAR)]), 1),
+]
+
+HEAD_ROW = ("head", (2, 1), InvalidHead, NO_FRACTIONS + NOT_ABOVE_ZERO)
+ASKS_ROW = ("asks", (("over", (2, 1, 1)), ("low", (5, 1))), InvalidAsks, WRONG_ASKS)
+ASK_ROW = ("ask", ("over", (1, 2, 1)), InvalidAsk, NO_ASKS)
+JET_ROW = ("jet", ((1, 1), (1, 4)), InvalidJet, NO_JETS)
+PLACE_ROW = ("place", (2, 1, 1), InvalidPlace, NO_PLACES)
+DISTANCE_ROW = ("distance", (1, 2), InvalidDistance, NO_FRACTIONS + NOT_ABOVE_ZERO)
+
+
+def row_for(name, row):
+    """The row of a parameter, for one of another name that is checked in the same way."""
+    return (name,) + row[1:]
+
+
 def error_of(function, *arguments, **named):
     """The error that a call raises; None if it raises none."""
     try:
@@ -79,18 +146,27 @@ def error_of(function, *arguments, **named):
     return None
 
 
+def wrong_ones(row):
+    """The wrong values of a row, each beside the index that is told, if any."""
+    return row[3] if row[2] is InvalidAsks else [(wrong, None) for wrong in row[3]]
+
+
 def check_arguments(case, function, rows):
     """Pass every mix of right and wrong values.
 
     For each parameter in the order of the signature there is a row: its name, a right value, the class of errors
     and the wrong values. The first wrong argument has to be told, by position and by name.
     """
-    for at, (name, _, error_class, wrong_values) in enumerate(rows):
-        for wrong in wrong_values:
-            later_ones = [row[1] for row in rows[at + 1:]], [row[3][0] for row in rows[at + 1:]]
-            for later in later_ones:
+    first_wrong = [wrong_ones(row)[0][0] for row in rows]
+    for at, row in enumerate(rows):
+        name, _, error_class, _ = row
+        for wrong, index in wrong_ones(row):
+            for later in ([row[1] for row in rows[at + 1:]], first_wrong[at + 1:]):
                 values = [row[1] for row in rows[:at]] + [wrong] + later
                 by_name = dict(zip([row[0] for row in rows], values))
                 for error in (error_of(function, *values), error_of(function, **by_name)):
                     case.assertIs(error.__class__, error_class, (function.__name__, name, at))
-                    case.assertIs(error.given, wrong)
+                    if error_class is InvalidAsks:
+                        case.assertEqual((error.index.__class__, error.index), (index.__class__, index))
+                    else:
+                        case.assertIs(error.given, wrong)

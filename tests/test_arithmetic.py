@@ -3,7 +3,9 @@
 import unittest
 from fractions import Fraction
 
-from spoutlines.arithmetic import is_whole, minus, plus, reduced, sign, sign_with_root, square_root, times
+from spoutlines.arithmetic import (
+    is_below, is_whole, minus, negative, plus, quotient, reduced, sign, sign_with_root, square_root, times,
+)
 from tests.samples import STRANGE
 
 SMALL = [reduced(n, m) for m in (1, 2, 3, 4, 9) for n in range(-9, 10)]
@@ -30,6 +32,16 @@ class ArithmeticTest(unittest.TestCase):
                 first, second = Fraction(*one), Fraction(*other)
                 for told, right in ((plus, first + second), (minus, first - second), (times, first * second)):
                     self.assertEqual(told(one, other), (right.numerator, right.denominator))
+
+    def test_quotients_and_orders(self):
+        for one in SMALL:
+            self.assertEqual(negative(one), (-one[0], one[1]))
+            for other in SMALL[::3]:
+                first, second = Fraction(*one), Fraction(*other)
+                self.assertIs(is_below(one, other), first < second)
+                if second != 0:
+                    right = first / second
+                    self.assertEqual(quotient(one, other), (right.numerator, right.denominator))
 
     def test_square_root(self):
         self.assertEqual([square_root((0, 1)), square_root((4, 9)), square_root((1, 1))], [(0, 1), (2, 3), (1, 1)])

@@ -118,6 +118,25 @@ class LanguageTest(unittest.TestCase):
         defined += [node.targets[0].id for node in self.trees[own].body if isinstance(node, ast.Assign)]
         self.assertLessEqual(set(names), set(defined), path)
 
+    def test_imports_do_not_lead_back(self):
+        leads_to = {}
+        for path, tree in self.trees.items():
+            module = "spoutlines." + os.path.basename(path)[:-3]
+            names = [node.module for node in ast.walk(tree) if isinstance(node, ast.ImportFrom)]
+            leads_to[module] = {name for name in names if name not in LIBRARY}
+        while leads_to:
+            last_ones = [module for module, names in leads_to.items() if not names]
+            self.assertTrue(last_ones, leads_to)
+            leads_to = {module: names - set(last_ones) for module, names in leads_to.items() if names}
+
+    def test_module_level_values_are_plain(self):
+        for path, tree in self.trees.items():
+            for node in tree.body:
+                if isinstance(node, ast.Assign):
+                    self.assertEqual(len(node.targets), 1, path)
+                    self.assertIsInstance(node.targets[0], ast.Name, path)
+                    ast.literal_eval(node.value)
+
     def test_imports_are_used(self):
         for path, tree in self.trees.items():
             used = {node.id for node in ast.walk(tree) if isinstance(node, ast.Name)}
