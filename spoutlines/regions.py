@@ -133,16 +133,21 @@ def top_of(bounds, slopes):
     return found
 
 
+def least_on(parts, factor, weight):
+    """The least of factor * SLOPE + weight * BEND, a surd, for the jets on these parts; None for endless."""
+    values = [lowest(weighted(factor, weight, what), begin, end) for begin, end, what in parts]
+    if not values or None in values:
+        return None
+    return least_surd(values)
+
+
 def least_of(bounds, slopes, factor, weight):
     """The least of factor * SLOPE + weight * BEND, a surd, for all jets with these slopes; None for endless."""
     low, high = slopes
     parts = [(low, high, NOUGHT)]
     if weight[0] != 0:
         parts = bottom_of(bounds, slopes) if weight[0] > 0 else top_of(bounds, slopes)
-    values = [lowest(weighted(factor, weight, what), begin, end) for begin, end, what in parts]
-    if not values or None in values:
-        return None
-    return least_surd(values)
+    return least_on(parts, factor, weight)
 
 
 def range_of(bounds, slopes, factor, weight):

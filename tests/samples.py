@@ -1,6 +1,9 @@
 """Values of many kinds, and a check of errors, that several tests use."""
 
-from spoutlines.errors import InvalidAsk, InvalidAsks, InvalidDistance, InvalidHead, InvalidJet, InvalidPlace
+from spoutlines.errors import (
+    InvalidAsk, InvalidAsks, InvalidDistance, InvalidGround, InvalidGuards, InvalidHead, InvalidIndex, InvalidJet,
+    InvalidNumber, InvalidPlace, InvalidStream,
+)
 
 
 class Touchy:
@@ -124,12 +127,73 @@ WRONG_ASKS = [(value, None) for value in STRANGE if not isinstance(value, tuple)
     ((TOUCHY,) * 9, 0), ((("over", NEAR), [("over", NEAR)]), 1),
 ]
 
+NO_WHOLES = STRANGE + [(1, 2), (0, 1), ((0, 1), 0, (0, 1)), (1, 0, 1), ((0,),), "0", "1", b"1", [0], {0: 1}]
+NO_MANY = NO_WHOLES + [0, -1, -10, 10 ** 12 + 1, 10 ** 400]
+
+YARD = ((1, 0, 1), (2, 0, 1), (3, 1, 1))
+# Eight corners, and one more.
+LONG = tuple([(distance, 0, 1) for distance in range(1, 10)])
+GROUNDS = [
+    (NEAR, FAR), YARD, LONG[:8], ((1, 5, 2), (1, -5, 1)), ((1, 0, 10 ** 399), (10 ** 400 - 1, -1, 3)),
+    ((1, -1, 1), (3, -2, 2), (2, -1, 1)),
+]
+# Values that are no grounds, each beside the index that is told.
+WRONG_GROUNDS = [
+    (value, 0 if isinstance(value, tuple) and len(value) >= 2 else None) for value in STRANGE
+] + [
+    (0, None), ("ab", None), ([NEAR, FAR], None), ({NEAR: 1, FAR: 2}, None), (NEAR, 0), ((NEAR,), None),
+    ((TOUCHY,), None), ((NEAR, NEAR), 1), ((FAR, NEAR), 1), ((NEAR, (1, 2, 1)), 1), ((NEAR, (2, 3, 2)), 1),
+    ((NEAR, FAR, FAR), 2), ((NEAR, FAR, (2, 0, 1)), 2), ((NEAR, [3, 1, 1]), 1), ((NEAR, (2, 2, 2)), 1),
+    ((NEAR, (6, 2, 2)), 1), ((NEAR, TOUCHY), 1), ((TOUCHY, FAR), 0), (((0, 1, 1), FAR), 0), (((-1, 1, 1), FAR), 0),
+    ((NEAR, (2, 1, 0)), 1), ((NEAR, (True, 1, 2)), 1), ((NEAR, None, FAR), 1), (((1, 1), (3, 1)), 0),
+    (("over", NEAR), 0), ((("over", NEAR), ("over", FAR)), 0), (YARD + (NEAR,), 3), (LONG, 8), (LONG[:8] + (NEAR,), 8),
+    (LONG[:8] + (TOUCHY,), 8), (LONG[:7] + (TOUCHY, TOUCHY), 7), (LONG[:3] + LONG[:6], 3),
+    (LONG + tuple([(distance, 0, 1) for distance in range(10, 61)]), 8),
+] + [((NEAR, value), 1) for value in NO_PLACES]
+
+GUARDS = [("post", NEAR), ("curtain", NEAR), ("post", (6, -1, 4)), ("curtain", (1, 0, 2)), ("post", AHEAD[-1])]
+NO_GUARDS = STRANGE + [
+    "post", ("post",), ("post", NEAR, FAR), ["post", NEAR], ("post", [1, 1, 1]), ("post", (0, 1, 1)),
+    ("post", (-1, 1, 1)), ("post", (2, 2, 2)), ("post", (1, 1, 0)), ("post", (1, 1, True)), ("post", (1, 2)),
+    ("post", None), ("post", TOUCHY), (TOUCHY, NEAR), (NEAR, "post"), ("curtain",), ("curtain", (0, 1, 1)),
+    ("curtain", (1, 2)), ("Post", NEAR), ("post ", NEAR), ("", NEAR), (b"post", NEAR), (("post",), NEAR), (None, NEAR),
+    ("over", NEAR), ("under", NEAR), ("roof", NEAR, FAR), ("curtain", ("post", NEAR)), (("post", NEAR),), NEAR,
+]
+POST = ("post", NEAR)
+WRONG_GUARDS = [
+    (value, 0 if isinstance(value, tuple) and len(value) > 0 else None) for value in STRANGE
+] + [
+    (0, None), ("post", None), ([POST], None), ({POST: 1}, None), (POST, 0), ((POST, TOUCHY), 1), ((TOUCHY, POST), 0),
+    ((POST, POST, ("post", (0, 1, 1)), 7), 2), ((POST,) * 9, 8), ((POST,) * 60, 8), ((POST,) * 8 + (TOUCHY,), 8),
+    ((POST,) * 7 + (TOUCHY, TOUCHY), 7), ((POST, [POST]), 1), ((POST, (POST,)), 1),
+] + [((value,), 0) for value in NO_GUARDS]
+
+STREAMS = [
+    ((0, 0, 1), 1, JETS[0]), ((-3, 7, 2), -1, JETS[1]), ((10 ** 400 - 1, 0, 7), 1, JETS[4]), ((0, -1, 1), -1, JETS[2]),
+]
+NO_STREAMS = STRANGE + [
+    JETS[0], (NEAR, 1), (NEAR, 1, JETS[0], 1), [NEAR, 1, JETS[0]], (NEAR, 0, JETS[0]), (NEAR, 2, JETS[0]),
+    (NEAR, -2, JETS[0]), (NEAR, True, JETS[0]), (NEAR, False, JETS[0]), (NEAR, (1, 1), JETS[0]), (NEAR, "1", JETS[0]),
+    (NEAR, None, JETS[0]), (NEAR, TOUCHY, JETS[0]), (TOUCHY, 1, JETS[0]), (NEAR, 1, TOUCHY), (None, 1, JETS[0]),
+    ((2, 2, 2), 1, JETS[0]), ((1, 1, 0), 1, JETS[0]), ((1, 1), 1, JETS[0]), ([1, 1, 1], 1, JETS[0]),
+    (NEAR, 1, ((1, 1), (0, 1))), (NEAR, 1, ((1, 1), (-1, 1))), (NEAR, 1, ((2, 2), (1, 1))), (NEAR, 1, (1, 1)),
+    (NEAR, 1, [(1, 1), (1, 4)]), (1, NEAR, JETS[0]), (JETS[0], 1, NEAR), (NEAR, 1, None), (NEAR, 1, NEAR),
+    (NEAR, 10 ** 400, JETS[0]),
+]
+
 HEAD_ROW = ("head", (2, 1), InvalidHead, NO_FRACTIONS + NOT_ABOVE_ZERO)
 ASKS_ROW = ("asks", (("over", (2, 1, 1)), ("low", (5, 1))), InvalidAsks, WRONG_ASKS)
 ASK_ROW = ("ask", ("over", (1, 2, 1)), InvalidAsk, NO_ASKS)
 JET_ROW = ("jet", ((1, 1), (1, 4)), InvalidJet, NO_JETS)
 PLACE_ROW = ("place", (2, 1, 1), InvalidPlace, NO_PLACES)
 DISTANCE_ROW = ("distance", (1, 2), InvalidDistance, NO_FRACTIONS + NOT_ABOVE_ZERO)
+MANY_ROW = ("many", 10, InvalidNumber, NO_MANY)
+GROUND_ROW = ("ground", YARD, InvalidGround, WRONG_GROUNDS)
+# Of the edges of the yard.
+INDEX_ROW = ("index", 1, InvalidIndex, NO_WHOLES + [-1, -2, 2, 3, 10 ** 400, -(10 ** 400)])
+GUARDS_ROW = ("guards", (("curtain", (1, 1, 2)), POST), InvalidGuards, WRONG_GUARDS)
+STREAM_ROW = ("stream", STREAMS[0], InvalidStream, NO_STREAMS)
+WITH_INDEX = (InvalidAsks, InvalidGround, InvalidGuards)
 
 
 def row_for(name, row):
@@ -148,7 +212,7 @@ def error_of(function, *arguments, **named):
 
 def wrong_ones(row):
     """The wrong values of a row, each beside the index that is told, if any."""
-    return row[3] if row[2] is InvalidAsks else [(wrong, None) for wrong in row[3]]
+    return row[3] if row[2] in WITH_INDEX else [(wrong, None) for wrong in row[3]]
 
 
 def check_arguments(case, function, rows):
@@ -166,7 +230,7 @@ def check_arguments(case, function, rows):
                 by_name = dict(zip([row[0] for row in rows], values))
                 for error in (error_of(function, *values), error_of(function, **by_name)):
                     case.assertIs(error.__class__, error_class, (function.__name__, name, at))
-                    if error_class is InvalidAsks:
+                    if error_class in WITH_INDEX:
                         case.assertEqual((error.index.__class__, error.index), (index.__class__, index))
                     else:
                         case.assertIs(error.given, wrong)

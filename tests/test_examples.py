@@ -81,6 +81,76 @@ WETNESS = r"""
 >>> piece_side((1, 1), (("over", (1, 1, 1)),), (1, 0, 1), (2, 0, 1))
 raises NoJetFits()
 """
+GROUNDS = r"""
+>>> from spoutlines.grounds import farthest_strike, ground_word, ground_words, jet_striking, nearest_strike, strike_distance, strike_edge, strikes_up_to, struck_edges
+>>> yard = ((1, 0, 1), (2, 0, 1), (3, 1, 1))
+>>> [ground_word(((0, 1), (1, 4)), yard), ground_word(((1, 1), (3, 4)), yard), ground_word(((2, 1), (1, 2)), yard), ground_word(((1, 1), (1, 2)), yard)]
+['short', 'strikes', 'past', 'strikes']
+>>> [strike_edge(((1, 1), (3, 4)), yard), strike_distance(((1, 1), (3, 4)), yard), strike_edge(arch, yard), strike_distance(arch, yard), strike_distance(((1, 1), (1, 2)), yard), strike_edge(((2, 1), (1, 2)), yard)]
+[0, ((4, 3), 0, (0, 1)), 1, ((0, 1), 1, (8, 1)), ((2, 1), 0, (0, 1)), None]
+>>> [ground_words((1, 1), (), yard), struck_edges((1, 1), (), yard), jet_striking((1, 1), (), yard, 1), struck_edges((1, 1), (("under", (1, 0, 1)),), yard)]
+[('short', 'strikes'), (0, 1), ((1, 1), (1, 2)), (0,)]
+>>> [nearest_strike((1, 1), (), yard, 0, 10), farthest_strike((1, 1), (), yard, 0, 10), nearest_strike((2, 1), (), yard, 1, 10), farthest_strike((2, 1), (), yard, 1, 10), strikes_up_to((2, 1), (), yard, 1, (5, 2)), strikes_up_to((1, 1), (), yard, 0, (1, 2))]
+[(10, True), (20, True), (20, True), (29, False), True, False]
+"""
+GUARDS = r"""
+>>> from spoutlines.guards import fewest_guards, greatest_curtain, is_guarded, least_post
+>>> post, curtain, bar = ("post", (1, 2, 2)), ("curtain", (1, 1, 2)), ("post", (12, 9, 16))
+>>> [least_post((1, 1), (), (1, 0, 1), (1, 2)), greatest_curtain((1, 1), (), (1, 0, 1), (1, 2)), least_post((1, 1), (), (1, 1, 1), (1, 2))]
+[((1, 2), 1, (3, 16)), ((1, 2), -1, (3, 16)), None]
+>>> [is_guarded((1, 1), (), (1, 0, 1), (post,)), is_guarded((1, 1), (), (1, 0, 1), (curtain,)), is_guarded((1, 1), (), (1, 0, 1), (curtain, bar))]
+[True, False, True]
+>>> [fewest_guards((1, 1), (), (1, 0, 1), (curtain, bar)), fewest_guards((1, 1), (), (1, 0, 1), (curtain, post)), fewest_guards((1, 1), (), (1, 0, 1), (curtain,)), fewest_guards((1, 1), (), (1, 1, 1), (curtain,))]
+[(0, 1), (1,), None, ()]
+"""
+STREAMS = r"""
+>>> from spoutlines.streams import drops_meet, first_there, is_stream, meetings, water_at
+>>> left, right, back = ((0, 0, 1), 1, arch), ((4, 1, 1), -1, ((0, 1), (1, 4))), ((3, 0, 1), -1, ((2, 1), (1, 1)))
+>>> steep, mate = ((0, 2, 1), 1, ((0, 1), (1, 1))), ((4, 0, 1), -1, arch)
+>>> [water_at(left, (2, 1)), water_at(left, (-1, 1)), meetings(left, right), first_there(left, right, 0)]
+[(1, 1), None, ((((3, 1), 0, (0, 1)), ((3, 4), 0, (0, 1))),), 'other']
+>>> [meetings(left, steep), first_there(left, steep, 0), meetings(left, back), first_there(left, back, 0), meetings(left, mate)]
+[((((-2, 3), 1, (28, 9)), ((-14, 9), 1, (448, 81))),), 'first', ((((2, 1), 0, (0, 1)), ((1, 1), 0, (0, 1))),), 'both', None]
+>>> [drops_meet(left, right), drops_meet(left, back), drops_meet(left, mate), drops_meet(left, left), is_stream(((0, 0, 1), 0, arch))]
+[False, True, True, True, False]
+"""
+SWEEPS = r"""
+>>> from spoutlines.sweeps import jet_between, shares_good, shares_wet, swept_edges, swept_words
+>>> low, high = ((1, 1), (1, 2)), ((3, 1), (5, 2))
+>>> [jet_between(low, high, (1, 2)), shares_wet(low, high, (2, 1, 2)), shares_wet(low, high, (2, -1, 1)), shares_wet(low, high, (2, 1, 1))]
+[((2, 1), (3, 2)), ((0, 1), (1, 1)), ((1, 4), (1, 4)), None]
+>>> [shares_good(low, high, (1, 1), (("over", (2, 1, 2)),)), shares_good(low, high, (9, 10), ()), shares_good(low, high, (4, 5), ())]
+[(((0, 1), 0, (0, 1)), ((1, 1), 0, (0, 1))), (((2, 5), -1, (11, 100)), ((2, 5), 1, (11, 100))), None]
+>>> [swept_words(low, high, yard), swept_edges(low, high, yard), swept_words(low, ((0, 1), (1, 4)), yard)]
+[('strikes',), (0, 1), ('short', 'strikes')]
+"""
+CONSOLES = r"""
+>>> from spoutlines.consoles import Console
+>>> from spoutlines.workshops import Workshop
+>>> shop = Workshop()
+>>> console = Console(shop)
+>>> [console.say("put tap: 1/1; over 1 1 2"), console.say("names"), console.say("spout tap"), console.say("side tap: 1 1 1"), console.say("side tap: 1 0 1"), console.say("say tap: climbs 0/1 1/1"), console.say("say tap: over 1 1 1")]
+['done', 'tap', '1/1; over 1 1 2', 'under', 'wet', 'sure', 'never']
+>>> shop.wish(("wet", "tap", (1, 0, 1)))
+>>> console.say("put tap: 1/2; over 1 1 2")
+raises Broken(index=0)
+>>> shop.wish(("unstruck", "tap", yard, 0))
+raises Broken(index=1)
+>>> shop.wish(("unstruck", "tap", yard, 1))
+>>> [len(shop), shop.names, console.say("undo"), console.say("undo"), console.say("put tap: 1/2; over 1 1 2"), console.say("side tap: 1 0 1")]
+[3, ('tap',), 'done', 'done', 'done', 'none']
+"""
+CERTIFICATES = r"""
+>>> from spoutlines.checker import accepts
+>>> from spoutlines.certificates import certify_edge, certify_jets, certify_meetings, certify_place
+>>> high = (("over", (1, 1, 1)),)
+>>> [accepts(("no jet", (1, 1), high), ((1, 1), ((0, (0, 1), (4, 1)),))), accepts(("no jet", (1, 1), high), ((1, 1), ((0, (0, 1), (3, 1)),))), accepts(("no jet", (3, 2), high), ((1, 1), ((0, (0, 1), (6, 1)),))), accepts(("fits", (3, 2), high), ((2, 1), (1, 1)))]
+[True, False, False, True]
+>>> [accepts(("dry", (1, 1), (), (1, 1, 1)), ((1, 1), ((0, (0, 1), (4, 1)),))), accepts(("wet", (1, 1), (), (4, 3, 4)), ((2, 1), (5, 4))), accepts(("struck", (1, 1), (), yard, 1), ((1, 1), (1, 2))), accepts(("unstruck", (1, 1), (), yard, 1), ()), accepts(("meetings", left, back, 1), ())]
+[True, True, True, False, True]
+>>> [certify_jets((1, 1), high)[0], certify_place((1, 1), (), (1, 1, 1))[0], certify_edge((1, 1), (("under", (1, 0, 1)),), yard, 1), certify_meetings(left, right)[0][3]]
+[('no jet', (1, 1), (('over', (1, 1, 1)),)), ('dry', (1, 1), (), (1, 1, 1)), (('unstruck', (1, 1), (('under', (1, 0, 1)),), ((1, 0, 1), (2, 0, 1), (3, 1, 1)), 1), ()), 1]
+"""
 
 
 class ExamplesTest(unittest.TestCase):
@@ -126,6 +196,28 @@ class ExamplesTest(unittest.TestCase):
 
     def test_wetness(self):
         self.check_examples(JETS, ASKS, FITS, WETNESS)
+
+    def test_grounds(self):
+        self.check_examples(JETS, GROUNDS)
+
+    def test_guards(self):
+        self.check_examples(GUARDS)
+
+    def test_streams(self):
+        self.check_examples(JETS, STREAMS)
+
+    def test_sweeps(self):
+        self.check_examples(JETS, GROUNDS, SWEEPS)
+
+    def test_workshops_and_consoles(self):
+        self.check_examples(JETS, GROUNDS, CONSOLES)
+
+    def test_checker_and_certificates(self):
+        self.check_examples(JETS, GROUNDS, STREAMS, CERTIFICATES)
+
+    def test_all_of_them_one_after_another(self):
+        self.check_examples(
+            JETS, ASKS, FITS, RANGES, SAYINGS, HEADS, WETNESS, GROUNDS, GUARDS, STREAMS, SWEEPS, CONSOLES, CERTIFICATES)
 
 
 if __name__ == "__main__":

@@ -3,7 +3,10 @@
 import inspect
 import unittest
 
-from spoutlines import asks, fits, heads, jets, numbers, places, ranges, sayings, wetness
+from spoutlines import (
+    asks, certificates, checker, consoles, fits, grounds, guards, heads, jets, numbers, places, ranges, sayings,
+    streams, sweeps, wetness, workshops,
+)
 
 NUMBERS = {
     "is_fraction": ["value"],
@@ -86,20 +89,88 @@ WETNESS = {
     "side_of": ["head", "asks", "place"],
     "piece_side": ["head", "asks", "place", "other"],
 }
+GROUNDS = {
+    "ground_word": ["jet", "ground"],
+    "strike_edge": ["jet", "ground"],
+    "strike_distance": ["jet", "ground"],
+    "ground_words": ["head", "asks", "ground"],
+    "struck_edges": ["head", "asks", "ground"],
+    "jet_striking": ["head", "asks", "ground", "index"],
+    "strikes_up_to": ["head", "asks", "ground", "index", "distance"],
+    "nearest_strike": ["head", "asks", "ground", "index", "many"],
+    "farthest_strike": ["head", "asks", "ground", "index", "many"],
+}
+GUARDS = {
+    "is_guard": ["value"],
+    "is_guarded": ["head", "asks", "place", "guards"],
+    "fewest_guards": ["head", "asks", "place", "guards"],
+    "least_post": ["head", "asks", "place", "distance"],
+    "greatest_curtain": ["head", "asks", "place", "distance"],
+}
+STREAMS = {
+    "is_stream": ["value"],
+    "water_at": ["stream", "fraction"],
+    "meetings": ["stream", "other"],
+    "first_there": ["stream", "other", "index"],
+    "drops_meet": ["stream", "other"],
+}
+SWEEPS = {
+    "jet_between": ["jet", "other", "fraction"],
+    "shares_wet": ["jet", "other", "place"],
+    "shares_good": ["jet", "other", "head", "asks"],
+    "swept_words": ["jet", "other", "ground"],
+    "swept_edges": ["jet", "other", "ground"],
+}
+CHECKER = {
+    "accepts": ["claim", "paper"],
+}
+CERTIFICATES = {
+    "certify_jets": ["head", "asks"],
+    "certify_ask": ["head", "asks", "ask"],
+    "certify_place": ["head", "asks", "place"],
+    "certify_guards": ["head", "asks", "place", "guards"],
+    "certify_edge": ["head", "asks", "ground", "index"],
+    "certify_meetings": ["stream", "other"],
+}
+WORKSHOP = {
+    "__init__": [],
+    "put": ["name", "head", "asks"],
+    "drop": ["name"],
+    "wish": ["wish"],
+    "lift": ["index"],
+    "named": ["name"],
+    "undo": [],
+    "trial": [],
+    "tried": ["action"],
+    "__len__": [],
+}
+CONSOLE = {
+    "__init__": ["shop"],
+    "say": ["line"],
+}
 
 
 class InterfaceTest(unittest.TestCase):
 
+    def check_function(self, function, module, parameters):
+        self.assertTrue(inspect.isfunction(function))
+        self.assertEqual(function.__module__, module.__name__)
+        told = inspect.signature(function).parameters.values()
+        self.assertEqual([one.name for one in told], parameters, function.__name__)
+        for one in told:
+            self.assertEqual(one.kind, inspect.Parameter.POSITIONAL_OR_KEYWORD, function.__name__)
+            self.assertIs(one.default, inspect.Parameter.empty, function.__name__)
+
     def check_file(self, module, table):
         for name, parameters in table.items():
-            function = getattr(module, name)
-            self.assertTrue(inspect.isfunction(function), name)
-            self.assertEqual(function.__module__, module.__name__, name)
-            told = inspect.signature(function).parameters.values()
-            self.assertEqual([one.name for one in told], parameters, name)
-            for one in told:
-                self.assertEqual(one.kind, inspect.Parameter.POSITIONAL_OR_KEYWORD, name)
-                self.assertIs(one.default, inspect.Parameter.empty, name)
+            self.check_function(getattr(module, name), module, parameters)
+
+    def check_class(self, made, module, table):
+        """Each method stands in the class itself."""
+        self.assertTrue(inspect.isclass(made))
+        self.assertEqual(made.__module__, module.__name__)
+        for name, parameters in table.items():
+            self.check_function(vars(made)[name], module, ["self"] + parameters)
 
     def test_numbers(self):
         self.check_file(numbers, NUMBERS)
@@ -119,6 +190,23 @@ class InterfaceTest(unittest.TestCase):
         self.check_file(sayings, SAYINGS)
         self.check_file(heads, HEADS)
         self.check_file(wetness, WETNESS)
+
+    def test_grounds_guards_streams_and_sweeps(self):
+        self.check_file(grounds, GROUNDS)
+        self.check_file(guards, GUARDS)
+        self.check_file(streams, STREAMS)
+        self.check_file(sweeps, SWEEPS)
+
+    def test_checker_and_certificates(self):
+        self.check_file(checker, CHECKER)
+        self.check_file(certificates, CERTIFICATES)
+
+    def test_workshops_and_consoles(self):
+        self.check_class(workshops.Workshop, workshops, WORKSHOP)
+        self.check_class(consoles.Console, consoles, CONSOLE)
+        self.assertIn("__contains__", vars(workshops.Workshop))
+        for name in ("names", "wishes"):
+            self.assertIsInstance(vars(workshops.Workshop)[name], property)
 
 
 if __name__ == "__main__":
