@@ -17,36 +17,32 @@ def read_whole(text):
     return number if str(number) == text else None
 
 
+def read_wholes(words):
+    """The whole numbers that are written by these words, None for each other word."""
+    return tuple([read_whole(word) for word in words])
+
+
 def read_fraction(text):
     """The fraction that is written so; None for any other text."""
-    value = tuple([read_whole(part) for part in text.split("/")])
+    value = read_wholes(text.split("/"))
     return value if is_fraction(value) else None
-
-
-def read_points(words):
-    """The points that are written by these words, perhaps wrong ones; None if they are not three by three."""
-    numbers = [read_whole(word) for word in words]
-    if len(numbers) % 3 != 0:
-        return None
-    return tuple([tuple(numbers[at:at + 3]) for at in range(0, len(numbers), 3)])
 
 
 def read_place(text):
     """The place that is written so; None for any other text."""
-    points = read_points(text.split(" "))
-    return points[0] if points is not None and len(points) == 1 and is_place(points[0]) else None
+    value = read_wholes(text.split(" "))
+    return value if is_place(value) else None
 
 
 def read_ask(text):
     """The ask that is written so; None for any other text."""
     word, *words = text.split(" ")
     if word in ("over", "under", "roof"):
-        values = read_points(words)
+        values = [read_wholes(words[at:at + 3]) for at in range(0, len(words), 3)]
     else:
-        values = tuple([read_fraction(one) for one in words])
-    if values is None or not is_ask((word,) + values):
-        return None
-    return (word,) + values
+        values = [read_fraction(one) for one in words]
+    ask = (word,) + tuple(values)
+    return ask if is_ask(ask) else None
 
 
 def read_spout(text):

@@ -106,7 +106,6 @@ class Workshop:
         """Keep a wish that holds."""
         if not is_wish(wish):
             raise InvalidWish(wish)
-        self.check_known(wish[1])
         head, asks = self.named(wish[1])
         if not holds(wish, head, asks):
             raise Broken(len(self.state.wished))

@@ -268,7 +268,8 @@ class AnyValuesTest(AcceptsCase):
             if claim[0] in ("no jet", "dry", "guarded"):
                 share, parts = paper
                 wrong = [(parts, share), (share,), (share, parts, parts), (share, ()), (share, list(parts)),
-                    [share, parts], (share, parts + (parts[0],) * 4), (share, parts[0]), ((-1, 1), parts), (None, parts), (1, parts)]
+                    [share, parts], (share, parts + (parts[0],) * 4), (share, parts[0]), ((-1, 1), parts),
+                    (None, parts), (1, parts)]
                 for at, part in enumerate(parts):
                     for changed in ((part[0], part[1]), part + (0,), list(part), part[::-1], (True,) + part[1:],
                                     (part[0], (1, 1), part[2]), (part[0], part[1], (0, 1)), (part[0], part[1], (-1, 1)),

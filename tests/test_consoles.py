@@ -228,8 +228,9 @@ class SayTest(ConsoleCase):
             "put t ap: 1/1", "Put tap: 1/1", "PUT tap: 1/1", "put tap: 1/1\n", "drop", "drop ", "drop  tap",
             "drop tap ", "drop tap:", "drop: tap", "drop tap a", "drop\ttap", "undo ", " undo", "undo tap", "Undo",
             "undo:", "undo\n", "names ", "names tap", "name", "spout", "spout tap:", "spout tap ", "spout tap: 1",
-            "side", "side tap", "side tap:", "side tap: ", "side tap: 1 0", "side tap: 1 0 1 1", "side tap: 1/1 0/1",
-            "side tap: 1/1", "side tap 1 0 1", "side tap: 1  0 1", "side tap: 1 0 1 ", "side tap: 1,0,1",
+            "side", "side tap", "side tap:", "side tap: ", "side tap: 1 0", "side tap: 1 0 1 1",
+            "side tap: 1 0 1 2 0 1", "side tap: 1/1 0/1", "side tap: 1/1", "side tap 1 0 1", "side tap: 1  0 1",
+            "side tap: 1 0 1 ", "side tap: 1,0,1",
             "side: tap 1 0 1", "say", "say tap", "say tap:", "say tap: ", "say tap: over", "say tap: over 1 1",
             "say tap: over 1 1 2 ", "say tap: over  1 1 2", "say tap: 1 1 2", "say tap: over 1 1 2; under 1 1 2",
             "wish tap", "lift 0", "trial", "help", "put tap: 1/1\nundo", "names;undo")

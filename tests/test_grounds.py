@@ -6,12 +6,13 @@ from math import isqrt
 
 from spoutlines.asks import does_all, grown_ask, sheared_ask
 from spoutlines.errors import InvalidDistance, InvalidGround, InvalidIndex, InvalidNumber
-from spoutlines.fits import any_jet
+from spoutlines.fits import any_jet, good_jet
 from spoutlines.grounds import (
     farthest_strike, ground_word, ground_words, jet_striking, nearest_strike, strike_distance, strike_edge,
     strikes_up_to, struck_edges,
 )
 from spoutlines.jets import grown_jet, sheared_jet
+from spoutlines.misses import jet_missing
 from spoutlines.papers import paper_against
 from spoutlines.places import grown, place_of, sheared
 from spoutlines.ranges import bends_with, slope_range
@@ -309,10 +310,24 @@ class AllJetsTest(unittest.TestCase):
             for word, seen in found.items():
                 self.assertTrue(not seen or word in words, (head, asks, ground))
                 self.assertLessEqual(seen - {None}, set(edges))
+            self.check_ends_of_words(head, asks, ground, words)
             for index in range(len(ground) - 1):
                 self.check_edge(head, asks, ground, index, index in edges)
             told[words] = told.get(words, 0) + 1
         self.assertGreater(len(told), 5)
+
+    def check_ends_of_words(self, head, asks, ground, words):
+        """Of the jets that are short, and past, there are some, or a paper shows that there are none."""
+        distance, height = distance_and_height(ground[0])
+        rows = [("short", jet_missing(head, asks, ("over", ground[0])), (("under", place(distance, height - TINY)),))]
+        past = tuple([("over", corner) for corner in ground])
+        rows.append(("past", good_jet(head, asks + past), past))
+        for word, jet, more in rows:
+            if word in words:
+                self.assertTrue(oracle.is_good(jet, head, asks))
+                self.assertEqual(ground_word(jet, ground), word)
+            else:
+                self.assertTrue(oracle.settles(head, asks + more, paper_against(head, asks + more)))
 
     def check_edge(self, head, asks, ground, index, is_struck):
         above = asks + tuple([("over", corner) for corner in ground[:index + 1]])
@@ -463,6 +478,15 @@ class EndsTest(unittest.TestCase):
         for distance in (1, 2, 3, 5, 9):
             self.assertIs(strikes_up_to(ONE, (WALL,), YARD, 0, (distance, 1)), False)
             self.assertIs(strikes_up_to((4, 1), (LOFTY,), ground_of((3, 1), (4, 3)), 0, (distance, 1)), False)
+
+    def test_short_ones_do_not_count(self):
+        # Rising by 1 / 4 at 2 those that are not short strike it from 4 on; short ones are below it at 3.
+        asks, ground = (("climbs", (2, 1), (1, 4)),), ((2, 1, 1), (9, 1, 1))
+        self.assertIn("short", ground_words((4, 1), asks, ground))
+        for many in MANIES:
+            self.assertEqual(nearest_strike((4, 1), asks, ground, 0, many), (4 * many, True))
+        for distance, told in ((2, False), (3, False), (4 - TINY, False), (4, True), (9, True)):
+            self.assertIs(strikes_up_to((4, 1), asks, ground, 0, pair(distance)), told)
 
     def test_at_the_begin_a_jet_must_not_rise_above_the_edge(self):
         # Through (1, 0) jets have the slope 0 - bend there; with bends up to 1 they fall by 1 at most.

@@ -98,6 +98,13 @@ class JetTest(unittest.TestCase):
         self.check(TWO, (), ("low", pair(2 - TINY)))
         self.check(TWO, (), ("roof", place(1, 2 - TINY), place(3, 1 - TINY)))
 
+    def test_where_the_ask_bounds_them_itself(self):
+        # All jets with slopes from 1 on that are as high as may be just do it.
+        self.check(TWO, (("low", ONE),), ("low", ONE), False)
+        self.check(TWO, (("low", ONE), EAVES), EAVES, False)
+        self.check(TWO, (("under", (2, 1, 1)),), ("roof", (2, 1, 1), (3, 9, 1)), False)
+        self.check(TWO, (("low", ONE),), ("low", pair(1 - TINY)))
+
     def test_one_good_jet(self):
         for ask in (LOFTY, ("under", (4, 3, 1)), ("low", (16, 5)), ("quick", (5, 16)), ("slow", (5, 16)),
                     ("dives", (0, 1), (2, 1)), ("roof", place(3, Fraction(16, 5)), place(5, Fraction(16, 5)))):

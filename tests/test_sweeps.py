@@ -324,6 +324,18 @@ class SweptTest(unittest.TestCase):
         ground = (place(1, Fraction(5, 4)), place(2, 1), place(3, Fraction(-3, 4)), place(4, -1))
         self.check(one, jet(2, Fraction(3, 4)), ground, ("short", "strikes"), (2,))
 
+    def test_a_corner_over_which_all_are_as_high(self):
+        # At 1 all jets from LOW to HIGH are 1 / 2 high, at 2 from 0 down to - 4.
+        low = place(Fraction(1, 2), -9)
+        touched = place(1, Fraction(1, 2))
+        self.check(LOW, HIGH, (low, touched), ("past",), ())
+        self.check(LOW, HIGH, (low, touched, (2, -2, 1)), ("strikes", "past"), (1,))
+        self.check(LOW, HIGH, (touched, (2, -9, 1)), ("past",), ())
+        for height in (Fraction(1, 2) + BIT, 9):
+            self.check(LOW, HIGH, (low, place(1, height)), ("strikes",), (0,))
+            self.check(LOW, HIGH, (low, place(1, height), (2, -2, 1)), ("strikes",), (0,))
+            self.check(LOW, HIGH, (place(1, height), (2, -9, 1)), ("short",), ())
+
     def test_short_everywhere(self):
         self.check(LOW, HIGH, ((1, 9, 1), (2, 9, 1)), ("short",), ())
 
