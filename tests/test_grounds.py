@@ -482,11 +482,11 @@ class EndsTest(unittest.TestCase):
     def test_short_ones_do_not_count(self):
         # Rising by 1 / 4 at 2 those that are not short strike it from 4 on; short ones are below it at 3.
         asks, ground = (("climbs", (2, 1), (1, 4)),), ((2, 1, 1), (9, 1, 1))
-        self.assertIn("short", ground_words((4, 1), asks, ground))
+        self.assertIn("short", ground_words((9, 1), asks, ground))
         for many in MANIES:
-            self.assertEqual(nearest_strike((4, 1), asks, ground, 0, many), (4 * many, True))
+            self.assertEqual(nearest_strike((9, 1), asks, ground, 0, many), (4 * many, True))
         for distance, told in ((2, False), (3, False), (4 - TINY, False), (4, True), (9, True)):
-            self.assertIs(strikes_up_to((4, 1), asks, ground, 0, pair(distance)), told)
+            self.assertIs(strikes_up_to((9, 1), asks, ground, 0, pair(distance)), told)
 
     def test_at_the_begin_a_jet_must_not_rise_above_the_edge(self):
         # Through (1, 0) jets have the slope 0 - bend there; with bends up to 1 they fall by 1 at most.
